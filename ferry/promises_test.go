@@ -5,10 +5,25 @@ import (
 	"slices"
 	"strings"
 	"testing"
+	"time"
 
 	"ferry/api"
 	"ferry/ferry"
 )
+
+// wantNoMore waits a little: a goroutine that has been joined may still be on its way out.
+func wantNoMore(t *testing.T, before int) {
+	t.Helper()
+	after := 0
+	for range 1000 {
+		if after = runtime.NumGoroutine(); after <= before {
+			return
+		}
+		runtime.Gosched()
+		time.Sleep(time.Millisecond)
+	}
+	t.Errorf("P1: %d goroutines, where %d were before", after, before)
+}
 
 // TestNoGoroutineStays: P1.
 func TestNoGoroutineStays(t *testing.T) {
@@ -17,9 +32,46 @@ func TestNoGoroutineStays(t *testing.T) {
 		ferry.Decode(good, phase, "FERRYag"+head(2, 0, 7, 0, 0))
 		ferry.Decode(good, phase, "rubbish, and more of it")
 	}
-	if after := runtime.NumGoroutine(); after > before {
-		t.Errorf("P1: %d goroutines, where %d were before", after, before)
+	c := good
+	c.Clients = 8
+	for _, s := range append(rubbish(), "", "FE", "FERRYag"+head(2, 0, 7, 0, 0), "FERRYag"+head(5, 0, 7, 0, 0), strings.Repeat("FERRYb", 100)) {
+		x := sat(t, c)
+		for u := range 8 {
+			x.Send(u, s)
+		}
+		x.Tick()
+		x.Hang(3)
+		x.Tick()
+		x.Stop()
+		x.Tick()
 	}
+	wantNoMore(t, before)
+}
+
+// TestWrongNumbers: P1: no number and no text makes a call panic, or changes anything where it is refused.
+func TestWrongNumbers(t *testing.T) {
+	x := sat(t, good)
+	x.Send(0, "FERRYai")
+	x.Tick()
+	x.Send(0, "x")
+	long := strings.Repeat("FERRYa", 1<<16)
+	for _, n := range append([]int{-1, 2, 3, 255, 256}, far...) {
+		wantNobody(t, x, n)
+		if n < 0 {
+			wantTake(t, x, 0, n, "", api.ErrArg)
+		}
+		wantSend(t, x, n, long, api.ErrClient)
+		wantSend(t, x, 0, long, api.ErrLong)
+		x.Connect(n)
+		x.Crash(long)
+		x.Fate(n, true, n)
+		wantStatus(t, x, 0, api.Status{Phase: 1, Unread: 1, Tokens: 4, Out: 6})
+		wantStatus(t, x, 1, api.Status{Tokens: 4})
+	}
+	x.Log()
+	x.Done()
+	wantTake(t, x, 0, 99, "YI\x40\x00\x08\x00", api.OK)
+	wantConnect(t, x, 1, 0, api.ErrFull)
 }
 
 // TestListsAreNew: P2: lists that are out already stay as they are, whatever is asked or written into others later.

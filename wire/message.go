@@ -9,6 +9,7 @@ import (
 const (
 	hello     = "FERRY"
 	wanted    = "a" // the name that a greeting must give to get on
+	inform    = "i" // the option that asks how large all is
 	goOn      = "g" // the option behind which requests begin
 	headBytes = 9
 )

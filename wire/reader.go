@@ -1,4 +1,5 @@
-// Package wire reads what a client says out of its bytes.
+// Package wire reads what a client says out of its bytes, and makes the bytes
+// that it hears.
 package wire
 
 import (
@@ -28,6 +29,11 @@ type Reader struct {
 // cookie in use. The configuration must be one.
 func NewReader(c api.Config, phase int) *Reader {
 	return &Reader{size: c.Size, max: c.Max, phase: phase, used: map[int]struct{}{}}
+}
+
+// Phase is the one in which the next message will be read.
+func (r *Reader) Phase() int {
+	return r.phase
 }
 
 // Messages goes through the whole messages that s begins with; beside each

@@ -1,0 +1,81 @@
+package client
+
+import (
+	"ferry/api"
+	"ferry/wire"
+)
+
+// unnumbered is the number of a request that has just been read: which one it
+// gets hangs on what was read of others at the same time.
+const unnumbered = -1
+
+// Request is one that was accepted. The numbers rise over all clients.
+type Request struct {
+	api.Message
+	Number int
+}
+
+// Read reads messages from what the client has sent, as long as there is room
+// for more. It touches this client alone, so that several may be read side by
+// side.
+func (c *Client) Read() {
+	if !c.mayRead() {
+		return
+	}
+	for m, n := range c.reader.Messages(c.sent) {
+		c.sent = c.sent[n:]
+		c.hear(m)
+		if !c.mayRead() {
+			return
+		}
+	}
+}
+
+// mayRead is asked ahead of each message.
+func (c *Client) mayRead() bool {
+	return !c.isClosed() && len(c.queue) < c.config.Queue && c.hasRoomToAnswer()
+}
+
+// hasRoomToAnswer leaves the room alone for which the first request waits: no
+// reply that is given at once may take it.
+func (c *Client) hasRoomToAnswer() bool {
+	n := wire.MostAtOnce
+	if first, ok := c.First(); ok {
+		n += wire.ReplyBytes(first.Message)
+	}
+	return len(c.outbox)+n <= c.config.Out
+}
+
+// First is the request that has waited longest, and whether there is one.
+func (c *Client) First() (Request, bool) {
+	if len(c.queue) == 0 {
+		return Request{}, false
+	}
+	return c.queue[0], true
+}
+
+func (c *Client) hear(m api.Message) {
+	c.outbox = append(c.outbox, wire.Answer(c.config, m)...)
+	switch {
+	case m.What == api.Closing:
+		c.Close()
+	case isAccepted(m):
+		c.queue = append(c.queue, Request{m, unnumbered})
+	}
+}
+
+func isAccepted(m api.Message) bool {
+	return m.What == api.Request && m.Err == api.Fine && m.Kind != api.Bye
+}
+
+// NumberRequests gives numbers, from next on, to the requests that have none
+// yet, and tells the one that comes behind them.
+func (c *Client) NumberRequests(next int) int {
+	for i := range c.queue {
+		if c.queue[i].Number == unnumbered {
+			c.queue[i].Number = next
+			next++
+		}
+	}
+	return next
+}

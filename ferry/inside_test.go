@@ -1,0 +1,71 @@
+package ferry
+
+import (
+	"testing"
+
+	"ferry/api"
+	"ferry/wire"
+)
+
+func TestClock(t *testing.T) {
+	x, _ := New(api.Config{Size: 4, Clients: 1, Queue: 1, Max: 4, Quantum: 4, Rate: 1, Burst: 1, Workers: 1, Out: 8})
+	for want := range 5 {
+		if x.clock != want {
+			t.Errorf("P5: the clock is %d behind %d ticks", x.clock, want)
+		}
+		if want == 3 {
+			x.Stop()
+		}
+		x.Tick()
+	}
+}
+
+// TestNumbersInTheOrderOfSeats: requests that are read in one tick are numbered by seat, not by who came or was read first.
+func TestNumbersInTheOrderOfSeats(t *testing.T) {
+	c := api.Config{Size: 4, Clients: 8, Queue: 2, Max: 4, Quantum: 4, Rate: 1, Burst: 1, Workers: 1, Out: 32}
+	flush := func(cookie byte) string { return "Q\x02\x00" + string([]byte{cookie}) + "\x00\x00\x00\x00\x00" }
+	for range 50 {
+		x, _ := New(c)
+		for range c.Clients {
+			x.Connect(1)
+		}
+		x.Hang(2)
+		x.Connect(1) // the last who came sits in the third seat
+		for _, u := range []int{7, 8, 5, 6, 4, 3, 1, 0} {
+			x.Send(u, "FERRYag"+flush(1)+flush(2))
+		}
+		x.read()
+		for i, seat := range x.seats {
+			if first, ok := seat.First(); !ok || first.Number != 2*i {
+				t.Fatalf("the first request in seat %d is %+v", i, first)
+			}
+		}
+		if x.accepted != 2*c.Clients {
+			t.Fatalf("%d requests have numbers, want %d", x.accepted, 2*c.Clients)
+		}
+	}
+}
+
+// TestSeats: the lowest seat that is free is taken.
+func TestSeats(t *testing.T) {
+	x, _ := New(api.Config{Size: 4, Clients: 4, Queue: 1, Max: 4, Quantum: 4, Rate: 1, Burst: 1, Workers: 1, Out: 8})
+	for range 4 {
+		x.Connect(1)
+	}
+	for _, step := range []struct{ gone, seat int }{{3, 3}, {1, 1}, {0, 0}} {
+		x.Hang(step.gone)
+		u, _ := x.Connect(1)
+		if x.seats[step.seat] == nil || x.seats[step.seat].Number() != u {
+			t.Errorf("seat %d was free, but %d does not sit there", step.seat, u)
+		}
+	}
+	for u := range 8 {
+		x.Hang(u)
+	}
+	for want := range 4 {
+		u, _ := x.Connect(1)
+		if x.seats[want].Number() != u || x.seats[want].Status().Phase != wire.PhaseGreeting {
+			t.Errorf("%d does not sit in seat %d", u, want)
+		}
+	}
+}
