@@ -12,21 +12,27 @@ import (
 
 // Client is one that has a seat.
 type Client struct {
-	number int
-	config api.Config
-	reader *wire.Reader
-	sent   string // what is not read yet
-	queue  []Request
-	outbox []byte
-	tokens int
-	closed chan struct{} // nothing is sent on it: that it is closed tells that the client is
+	number   int
+	weight   int
+	config   api.Config
+	reader   *wire.Reader
+	sent     string // what is not read yet
+	queue    []Request
+	flying   int // how many requests are in flight
+	promised int // how many bytes their replies without error take
+	outbox   []byte
+	tokens   int
+	deficit  int
+	served   int
+	closed   chan struct{} // nothing is sent on it: that it is closed tells that the client is
 }
 
-// New makes the client of that number, in phase 0. The configuration must be
-// one.
-func New(c api.Config, number int) *Client {
+// New makes the client of that number and weight, in phase 0. The
+// configuration must be one.
+func New(c api.Config, number, weight int) *Client {
 	return &Client{
 		number: number,
+		weight: weight,
 		config: c,
 		reader: wire.NewReader(c, wire.PhaseGreeting),
 		tokens: c.Burst,
@@ -63,7 +69,8 @@ func (c *Client) Take(n int) (string, api.Errno) {
 	return s, api.OK
 }
 
-// Close may be called again: who went away may have been closed before.
+// Close may be called again: who went away may have been closed before. What
+// is in flight stays there: it will be done.
 func (c *Client) Close() {
 	if c.isClosed() {
 		return
@@ -82,30 +89,26 @@ func (c *Client) isClosed() bool {
 	}
 }
 
-// Earn gives the client the tokens of one tick.
-func (c *Client) Earn() {
-	c.tokens = min(c.tokens+c.config.Rate, c.config.Burst)
-}
-
-// IsGone tells whether nobody need know of the client any more.
+// IsGone tells whether nobody need know of the client any more. One that is
+// closed has no queue and no outbox: only what is in flight keeps it.
 func (c *Client) IsGone() bool {
-	switch c.phase() {
-	case wire.PhaseLeaving:
-		return len(c.queue) == 0 && len(c.outbox) == 0
-	case wire.PhaseClosed:
-		return true
+	if c.phase() < wire.PhaseLeaving {
+		return false
 	}
-	return false
+	return len(c.queue) == 0 && c.flying == 0 && len(c.outbox) == 0
 }
 
 // Status tells how the client stands.
 func (c *Client) Status() api.Status {
 	return api.Status{
-		Phase:  c.phase(),
-		Unread: len(c.sent),
-		Queued: len(c.queue),
-		Tokens: c.tokens,
-		Out:    len(c.outbox),
+		Phase:   c.phase(),
+		Unread:  len(c.sent),
+		Queued:  len(c.queue),
+		Flying:  c.flying,
+		Tokens:  c.tokens,
+		Deficit: c.deficit,
+		Out:     len(c.outbox),
+		Served:  c.served,
 	}
 }
 

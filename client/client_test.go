@@ -18,7 +18,7 @@ func bad(cookie int) string { return head(9, cookie, 0) }
 // begun is a client in phase 2 that has taken what it has heard so far.
 func begun(t *testing.T, c api.Config) *Client {
 	t.Helper()
-	x := New(c, 3)
+	x := New(c, 3, 1)
 	hears(t, x, "FERRYag", "YG")
 	return x
 }
@@ -161,7 +161,7 @@ func TestClosed(t *testing.T) {
 
 // TestChannelIsAsked: whoever reads asks the channel ahead of the first message, whatever else lies there.
 func TestChannelIsAsked(t *testing.T) {
-	x := New(config, 0)
+	x := New(config, 0, 1)
 	x.Send("FERRYa")
 	close(x.closed)
 	x.Read()
@@ -197,7 +197,7 @@ func TestWhoIsGone(t *testing.T) {
 		t.Error("P7: not gone, though it has nothing any more")
 	}
 	for phase, s := range []string{"", "FERRYa", "FERRYag"} {
-		y := New(config, 3)
+		y := New(config, 3, 1)
 		y.Send(s)
 		y.Read()
 		y.Take(9)
@@ -216,7 +216,7 @@ func TestTokens(t *testing.T) {
 		for rate := 1; rate <= api.MaxRate; rate++ {
 			c := config
 			c.Burst, c.Rate = burst, rate
-			x := New(c, 0)
+			x := New(c, 0, 1)
 			stands(t, x, api.Status{Tokens: burst})
 			x.tokens = 0
 			for ticks := 1; ticks <= 40; ticks++ {

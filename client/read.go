@@ -5,16 +5,6 @@ import (
 	"ferry/wire"
 )
 
-// unnumbered is the number of a request that has just been read: which one it
-// gets hangs on what was read of others at the same time.
-const unnumbered = -1
-
-// Request is one that was accepted. The numbers rise over all clients.
-type Request struct {
-	api.Message
-	Number int
-}
-
 // Read reads messages from what the client has sent, as long as there is room
 // for more. It touches this client alone, so that several may be read side by
 // side.
@@ -43,7 +33,13 @@ func (c *Client) hasRoomToAnswer() bool {
 	if first, ok := c.First(); ok {
 		n += wire.ReplyBytes(first.Message)
 	}
-	return len(c.outbox)+n <= c.config.Out
+	return c.hasRoom(n)
+}
+
+// hasRoom counts the replies to come as if they were in the outbox already:
+// when they come, they must find their room.
+func (c *Client) hasRoom(n int) bool {
+	return len(c.outbox)+c.promised+n <= c.config.Out
 }
 
 // First is the request that has waited longest, and whether there is one.
@@ -62,10 +58,6 @@ func (c *Client) hear(m api.Message) {
 	case isAccepted(m):
 		c.queue = append(c.queue, Request{m, unnumbered})
 	}
-}
-
-func isAccepted(m api.Message) bool {
-	return m.What == api.Request && m.Err == api.Fine && m.Kind != api.Bye
 }
 
 // NumberRequests gives numbers, from next on, to the requests that have none

@@ -21,7 +21,7 @@ func (x *Ferry) Connect(weight int) (int, api.Errno) {
 		return 0, api.ErrFull
 	}
 	u := x.came
-	x.seats[free] = client.New(x.config, u)
+	x.seats[free] = client.New(x.config, u, weight)
 	x.came++
 	return u, api.OK
 }
@@ -88,11 +88,16 @@ func (x *Ferry) seated() iter.Seq[*client.Client] {
 }
 
 // letGo comes last in each call that may make a client gone: until the call's
-// end its seat is taken.
+// end its seat is taken. Who sits there next must not find an open turn: it
+// would go without a share.
 func (x *Ferry) letGo() {
 	for i, c := range x.seats {
-		if c != nil && c.IsGone() {
-			x.seats[i] = nil
+		if c == nil || !c.IsGone() {
+			continue
+		}
+		x.seats[i] = nil
+		if x.turn.seat == i {
+			x.turn.open = false
 		}
 	}
 }

@@ -69,3 +69,45 @@ func TestSeats(t *testing.T) {
 		}
 	}
 }
+
+// TestTurnOfOneGone: the turn at the seat of one that is gone is not open any more; at any other seat it is.
+func TestTurnOfOneGone(t *testing.T) {
+	for gone := range 3 {
+		for seat := range 3 {
+			x, _ := New(api.Config{Size: 4, Clients: 3, Queue: 1, Max: 4, Quantum: 4, Rate: 1, Burst: 1, Workers: 1, Out: 8})
+			for range 3 {
+				x.Connect(1)
+			}
+			x.turn = turn{seat: seat, open: true}
+			x.Hang(gone)
+			if want := (turn{seat: seat, open: seat != gone}); x.turn != want {
+				t.Errorf("when the one in seat %d is gone, the turn is %+v, want %+v", gone, x.turn, want)
+			}
+		}
+	}
+}
+
+// TestTurnAtFirst: at seat 0, not open; it is open only where a job was dispatched last.
+func TestTurnAtFirst(t *testing.T) {
+	x, _ := New(api.Config{Size: 4, Clients: 3, Queue: 4, Max: 4, Quantum: 8, Rate: 1, Burst: 1, Workers: 1, Out: 32})
+	if x.turn != (turn{}) {
+		t.Errorf("the turn is %+v at first", x.turn)
+	}
+	x.Connect(1)
+	x.Connect(1)
+	x.Send(1, "FERRYag")
+	for tick, want := range []turn{{1, false}, {2, false}, {0, false}, {1, false}} {
+		x.Tick()
+		if x.turn != want {
+			t.Errorf("behind %d ticks the turn is %+v, want %+v", tick+1, x.turn, want)
+		}
+	}
+	x.Send(1, "Q\x02\x00\x07\x00\x00\x00\x00\x00")
+	x.Fate(3, false, 0)
+	for _, want := range []turn{{1, true}, {1, true}, {1, true}, {2, false}} {
+		x.Tick()
+		if x.turn != want {
+			t.Errorf("with a job in flight the turn is %+v, want %+v", x.turn, want)
+		}
+	}
+}

@@ -1,31 +1,51 @@
 package ferry_test
 
 import (
-	"math/rand/v2"
 	"slices"
 	"strings"
-	"testing"
 
 	"ferry/api"
 	"ferry/ferry"
 )
 
-// model is a second ferry, as plain as the document's words: one thing behind the other, texts and lists alone. Accepted requests wait in it.
+// model is a second ferry, as plain as the document's words: one thing behind the other, texts and lists alone.
 type model struct {
-	c       api.Config
-	seats   []*modelClient
-	came    int
-	stopped bool
+	c                        api.Config
+	seats                    []*modelClient
+	came, numbers, now, seat int
+	open, stopped            bool
+	fates                    []modelFate
+	jobs                     []modelJob // in the order of dispatch
+	disk                     string
+	log                      []api.Entry
 }
 
 type modelClient struct {
-	number, phase, tokens int
-	sent, outbox          string
-	queue                 []api.Message
+	number, weight, phase, tokens, deficit, served int
+	sent, outbox                                   string
+	queue                                          []modelRequest
+}
+
+type modelRequest struct {
+	api.Message
+	number int
+}
+
+type modelFate struct {
+	delay int
+	fails bool
+	part  int
+}
+
+type modelJob struct {
+	modelFate
+	of  *modelClient
+	row []modelRequest
+	due int
 }
 
 func newModel(c api.Config) *model {
-	return &model{c: c, seats: make([]*modelClient, c.Clients)}
+	return &model{c: c, seats: make([]*modelClient, c.Clients), disk: strings.Repeat("\x00", c.Size)}
 }
 
 func (x *model) find(u int) *modelClient {
@@ -46,7 +66,7 @@ func (x *model) connect(weight int) (int, api.Errno) {
 	}
 	for i, c := range x.seats {
 		if c == nil {
-			x.seats[i] = &modelClient{number: x.came, tokens: x.c.Burst}
+			x.seats[i] = &modelClient{number: x.came, weight: weight, tokens: x.c.Burst}
 			x.came++
 			return x.came - 1, api.OK
 		}
@@ -90,71 +110,126 @@ func (x *model) hang(u int) api.Errno {
 	return api.OK
 }
 
+func (x *model) fate(delay int, fails bool, part int) api.Errno {
+	if delay < 1 || delay > 16 || part < 0 {
+		return api.ErrArg
+	}
+	if len(x.fates) == 64 {
+		return api.ErrLong
+	}
+	x.fates = append(x.fates, modelFate{delay, fails, part})
+	return api.OK
+}
+
 func (x *model) client(u int) (api.Status, api.Errno) {
 	c := x.find(u)
 	if c == nil {
 		return api.Status{}, api.ErrClient
 	}
-	return api.Status{Phase: c.phase, Unread: len(c.sent), Queued: len(c.queue), Tokens: c.tokens, Out: len(c.outbox)}, api.OK
+	return api.Status{
+		Phase: c.phase, Unread: len(c.sent), Queued: len(c.queue), Flying: len(x.flying(c)),
+		Tokens: c.tokens, Deficit: c.deficit, Out: len(c.outbox), Served: c.served,
+	}, api.OK
+}
+
+func (x *model) done() bool {
+	for _, c := range x.seats {
+		if c != nil && len(c.queue) > 0 {
+			return false
+		}
+	}
+	return x.stopped && len(x.jobs) == 0
+}
+
+// flying is what a client has in flight, in the order of dispatch.
+func (x *model) flying(c *modelClient) []modelRequest {
+	var out []modelRequest
+	for _, j := range x.jobs {
+		if j.of == c {
+			out = append(out, j.row...)
+		}
+	}
+	return out
 }
 
 func (x *model) end() {
 	for i, c := range x.seats {
-		if c != nil && (c.phase == 4 || c.phase == 3 && len(c.queue) == 0 && c.outbox == "") {
+		if c == nil || len(x.flying(c)) > 0 {
+			continue
+		}
+		if c.phase == 4 || c.phase == 3 && len(c.queue) == 0 && c.outbox == "" {
 			x.seats[i] = nil
+			x.open = x.open && x.seat != i
 		}
 	}
 }
 
 func (x *model) tick() {
+	x.now++
 	for _, c := range x.seats {
 		if c != nil {
 			c.tokens = min(c.tokens+x.c.Rate, x.c.Burst)
 		}
 	}
 	for _, c := range x.seats {
-		for c != nil && !x.stopped && c.phase < 3 && c.readOne(x.c) {
+		for c != nil && !x.stopped && c.phase < 3 && x.readOne(c) {
 		}
 	}
+	for x.finishOne() {
+	}
+	x.turns()
 	x.end()
 }
 
 func (c *modelClient) close() {
-	*c = modelClient{number: c.number, phase: 4, tokens: c.tokens}
+	c.phase, c.sent, c.outbox, c.queue = 4, "", "", nil
 }
 
-func (c *modelClient) readOne(k api.Config) bool {
-	room := len(c.outbox) + 6
-	if len(c.queue) > 0 {
-		room += 4
-		if c.queue[0].Kind == 0 {
-			room += c.queue[0].Length
-		}
+func replyBytes(m api.Message) int {
+	if m.Kind == api.Read {
+		return 4 + m.Length
 	}
-	m, n := c.first(k)
-	if n == 0 || room > k.Out || len(c.queue) >= k.Queue {
+	return 4
+}
+
+func (x *model) room(c *modelClient, n int) bool {
+	n += len(c.outbox)
+	for _, r := range x.flying(c) {
+		n += replyBytes(r.Message)
+	}
+	return n <= x.c.Out
+}
+
+func (x *model) readOne(c *modelClient) bool {
+	room := 6
+	if len(c.queue) > 0 {
+		room += replyBytes(c.queue[0].Message)
+	}
+	m, n := x.first(c)
+	if n == 0 || !x.room(c, room) || len(c.queue) >= x.c.Queue {
 		return false
 	}
 	c.sent = c.sent[n:]
-	c.hear(k, m)
+	x.hear(c, m)
 	return true
 }
 
-// first finds the shortest piece in which a message stands; the cookies that wait are put ahead of it, so that they are in use.
-func (c *modelClient) first(k api.Config) (api.Message, int) {
+// first finds the shortest piece in which a message stands; what is not answered is put ahead of it, so that its cookies are in use.
+func (x *model) first(c *modelClient) (api.Message, int) {
+	open := slices.Concat(x.flying(c), c.queue)
 	var ahead strings.Builder
-	for _, m := range c.queue {
+	for _, m := range open {
 		ahead.WriteString(head(m.Kind, m.Flag, m.Cookie, m.Offset, m.Length) + m.Data)
 	}
 	for n := 1; n <= len(c.sent); n++ {
-		if l, _ := ferry.Decode(k, c.phase, ahead.String()+c.sent[:n]); len(l) > len(c.queue) {
-			return l[len(c.queue)], n
+		if l, _ := ferry.Decode(x.c, c.phase, ahead.String()+c.sent[:n]); len(l) > len(open) {
+			return l[len(open)], n
 		}
 	}
 	return api.Message{}, 0
 }
 
-func (c *modelClient) hear(k api.Config, m api.Message) {
+func (x *model) hear(c *modelClient, m api.Message) {
 	switch {
 	case m.What == api.Greeting && m.Name == "a":
 		c.outbox, c.phase = c.outbox+"Y", 1
@@ -163,226 +238,165 @@ func (c *modelClient) hear(k api.Config, m api.Message) {
 	case m.What == api.Option && m.Name == "g":
 		c.outbox, c.phase = c.outbox+"G", 2
 	case m.What == api.Option && m.Name == "i":
-		c.outbox += "I" + twoBytes(k.Size) + twoBytes(k.Max)
+		c.outbox += "I" + twoBytes(x.c.Size) + twoBytes(x.c.Max)
 	case m.What == api.Option:
 		c.outbox += "U" + m.Name
 	case m.What == api.Closing:
 		c.close()
 	case m.Err != 0:
-		c.outbox += "R" + string([]byte{byte(m.Err)}) + twoBytes(m.Cookie)
+		c.outbox += reply(m.Err, m.Cookie, "")
 	case m.Kind == api.Bye:
 		c.phase = 3
 	default:
-		c.queue = append(c.queue, m)
+		c.queue = append(c.queue, modelRequest{m, x.numbers})
+		x.numbers++
 	}
 }
 
-// script hands out numbers until its bytes are used up.
-type script struct{ left []byte }
-
-func (s *script) below(n int) int {
-	if len(s.left) == 0 {
-		return 0
+// finishOne does the job that is due first; of several it is the one that stands first in the list.
+func (x *model) finishOne() bool {
+	best := -1
+	for i, j := range x.jobs {
+		if j.due <= x.now && (best < 0 || j.due < x.jobs[best].due) {
+			best = i
+		}
 	}
-	b := int(s.left[0])
-	s.left = s.left[1:]
-	return b % n
-}
-
-func (s *script) config() api.Config {
-	most := 4 * (1 + s.below(8))
-	return api.Config{
-		Size: 4 * (1 + s.below(64)), Clients: 1 + s.below(8), Queue: 1 + s.below(8), Max: most,
-		Quantum: min(64, most+s.below(32)), Rate: 1 + s.below(16), Burst: 1 + s.below(32),
-		Workers: 1 + s.below(8), Out: min(256, most+4+s.below(60)),
-	}
-}
-
-// message mostly fits the phase: what closes a client at once tells little.
-func (s *script) message(k api.Config, phase int) string {
-	if s.below(40) == 0 {
-		return []string{"FERRYb", "FERRY", "FE", "x", "!", "X", "Q", "\x00", "\xff"}[s.below(9)]
-	}
-	switch phase {
-	case 0:
-		return []string{"FERRYag", "FERRYa", "FERRYag", "FERRYb", "FE", "FERRYaig"}[s.below(6)]
-	case 1:
-		return []string{"g", "g", "i", "z", "xyz"}[s.below(5)]
-	}
-	return s.request(k)
-}
-
-func (s *script) request(k api.Config) string {
-	cookie := s.below(256) + 256*s.below(8)
-	offset, length := 4*s.below(k.Size/4+1), 4*s.below(k.Max/4+1)
-	switch what := s.below(40); {
-	case what < 6:
-		return head(api.Write, s.below(2), cookie, offset, length) + strings.Repeat("d", length)
-	case what < 14:
-		return head(api.Trim+s.below(2), s.below(2), cookie, offset, length)
-	case what < 24:
-		return head(api.Read, 0, cookie, offset, length)
-	case what < 28:
-		return head(api.Flush, 0, cookie, 0, 0)
-	case what < 38:
-		return head(9, 0, cookie, 0, 0)
-	case what < 39:
-		return head(api.Bye, 0, cookie, 0, 0)
-	}
-	return head(api.Flush, 0, s.below(2), 0, 0)
-}
-
-// someone is mostly one who has a seat.
-func (x *model) someone(s *script) (int, int) {
-	if c := x.seats[s.below(len(x.seats))]; c != nil {
-		return c.number, c.phase
-	}
-	return x.came - s.below(10), 0
-}
-
-// game is a script that is played to a ferry and to the model, whose answers are held against each other.
-type game struct {
-	*script
-	t    *testing.T
-	c    api.Config
-	x    *ferry.Ferry
-	y    *model
-	step int
-}
-
-func newGame(t *testing.T, data []byte) *game {
-	s := &script{data}
-	c := s.config()
-	return &game{s, t, c, begun(t, c), newModel(c), 0}
-}
-
-// next plays one step, and tells whether there was one.
-func (g *game) next() bool {
-	g.t.Helper()
-	if len(g.left) == 0 {
+	if best < 0 {
 		return false
 	}
-	g.step++
-	u, phase := g.y.someone(g.script)
-	switch g.below(12) {
-	case 0, 1:
-		g.connect(g.below(6))
-	case 2, 3, 4, 5, 6:
-		g.send(u, g.message(g.c, phase))
-	case 7, 8:
-		g.take(u, []int{0, 1, 3, 10, 40, 300, -1}[g.below(7)])
-	case 9:
-		g.seldom(u)
-	default:
-		g.x.Tick()
-		g.y.tick()
+	j := x.jobs[best]
+	x.jobs = slices.Delete(x.jobs, best, best+1)
+	left := 1 << 30
+	if j.fails {
+		left = j.part
 	}
-	g.sameClients()
+	for _, r := range j.row {
+		left = x.do(r, left)
+	}
+	for _, r := range j.row {
+		x.tell(j, r)
+	}
 	return true
 }
 
-func (g *game) connect(weight int) {
-	g.t.Helper()
-	n, e := g.x.Connect(weight)
-	m, f := g.y.connect(weight)
-	if n != m || e != f {
-		g.t.Fatalf("P5: step %d: Connect(%d) = %d, %d, want %d, %d", g.step, weight, n, e, m, f)
+// do writes at most so many sectors, and tells how many are left for the next.
+func (x *model) do(r modelRequest, left int) int {
+	if r.Kind == api.Read || r.Kind == api.Flush {
+		return left
 	}
-}
-
-func (g *game) send(u int, s string) {
-	g.t.Helper()
-	if e, f := g.x.Send(u, s), g.y.send(u, s); e != f {
-		g.t.Fatalf("P6: step %d: Send(%d, %q) = %d, want %d", g.step, u, s, e, f)
-	}
-}
-
-func (g *game) take(u, n int) {
-	g.t.Helper()
-	s, e := g.x.Take(u, n)
-	r, f := g.y.take(u, n)
-	if s != r || e != f {
-		g.t.Fatalf("P6: step %d: Take(%d, %d) = %q, %d, want %q, %d", g.step, u, n, s, e, r, f)
-	}
-}
-
-func (g *game) seldom(u int) {
-	g.t.Helper()
-	switch g.below(64) {
-	case 1:
-		g.x.Stop()
-		g.y.stopped = true
-	case 2, 3, 4, 5, 6, 7, 8, 9:
-		if e, f := g.x.Hang(u), g.y.hang(u); e != f {
-			g.t.Fatalf("P7: step %d: Hang(%d) = %d, want %d", g.step, u, e, f)
+	for at := 0; at < r.Length && left > 0; at += 4 {
+		sector := "\x00\x00\x00\x00"
+		if r.Kind == api.Write {
+			sector = r.Data[at : at+4]
 		}
+		x.disk = x.disk[:r.Offset+at] + sector + x.disk[r.Offset+at+4:]
+		left--
+	}
+	return left
+}
+
+func (x *model) tell(j modelJob, r modelRequest) {
+	err, data := 0, ""
+	if j.fails {
+		err = 5
+	} else if r.Kind == api.Read {
+		data = x.disk[r.Offset : r.Offset+r.Length]
+	}
+	x.log = append(x.log, api.Entry{Client: j.of.number, Cookie: r.Cookie, Kind: r.Kind, Flag: r.Flag, Offset: r.Offset, Length: r.Length, Err: err})
+	if j.of.phase != 4 {
+		j.of.outbox += reply(err, r.Cookie, data)
 	}
 }
 
-func (g *game) sameClients() {
-	g.t.Helper()
-	for u := g.y.came - 3*g.c.Clients; u <= g.y.came; u++ {
-		a, e := g.x.Client(u)
-		b, f := g.y.client(u)
-		if a != b || e != f {
-			g.t.Fatalf("P9: step %d: Client(%d) = %+v, %d, want %+v, %d", g.step, u, a, e, b, f)
+func (x *model) turns() {
+	for gone := 0; len(x.jobs) < x.c.Workers && gone < x.c.Clients+1; {
+		c := x.seats[x.seat]
+		if c != nil && !x.open {
+			c.deficit += c.weight * x.c.Quantum
+			x.open = true
 		}
-	}
-}
-
-func someBytes(seed uint64, n int) []byte {
-	r := rand.New(rand.NewPCG(seed, seed))
-	b := make([]byte, n)
-	for i := range b {
-		b[i] = byte(r.Uint32())
-	}
-	return b
-}
-
-func play(t *testing.T, data []byte) {
-	t.Helper()
-	for g := newGame(t, data); g.next(); {
-	}
-}
-
-func TestAgainstTheModel(t *testing.T) {
-	for seed := range uint64(300) {
-		play(t, someBytes(seed, 1500))
-	}
-}
-
-// TestInTurns: P2: ferries that are used in turns answer as each of them alone.
-func TestInTurns(t *testing.T) {
-	for seed := range uint64(20) {
-		var games []*game
-		for i := range uint64(4) {
-			games = append(games, newGame(t, someBytes(500+4*seed+i, 800)))
+		if c != nil && x.free(c) && cost(c.queue[0]) <= c.deficit {
+			x.dispatch(c)
+			gone = 0
+			continue
 		}
-		for on := true; on; {
-			on = false
-			for _, g := range games {
-				on = g.next() || on
+		if c != nil && !x.free(c) {
+			c.deficit = 0
+		}
+		x.open, x.seat = false, (x.seat+1)%x.c.Clients
+		gone++
+	}
+}
+
+func cost(r modelRequest) int {
+	if r.Kind == api.Flush {
+		return 4
+	}
+	return r.Length
+}
+
+// touch compares sector by sector.
+func touch(a, b modelRequest) bool {
+	if a.Kind == api.Flush || b.Kind == api.Flush || a.Kind == api.Read && b.Kind == api.Read {
+		return false
+	}
+	for i := a.Offset; i < a.Offset+a.Length; i += 4 {
+		for k := b.Offset; k < b.Offset+b.Length; k += 4 {
+			if i == k {
+				return true
 			}
 		}
 	}
+	return false
 }
 
-// TestSideBySide: P2: ferries that are used at the same time do not touch each other.
-func TestSideBySide(t *testing.T) {
-	for range 8 {
-		t.Run("one of many", func(t *testing.T) {
-			t.Parallel()
-			for seed := range uint64(10) {
-				play(t, someBytes(700+seed, 800))
+func (x *model) ready(c *modelClient) bool {
+	return len(c.queue) > 0 && c.tokens >= 1 && x.room(c, replyBytes(c.queue[0].Message))
+}
+
+func (x *model) held(c *modelClient) bool {
+	r := c.queue[0]
+	for _, j := range x.jobs {
+		for _, o := range j.row {
+			if touch(r, o) {
+				return true
 			}
-		})
+		}
 	}
+	for _, o := range x.seats {
+		if o != nil && o != c && x.ready(o) && o.queue[0].number < r.number && touch(r, o.queue[0]) {
+			return true
+		}
+	}
+	return false
 }
 
-// FuzzCalls: more scripts than those of TestAgainstTheModel.
-func FuzzCalls(f *testing.F) {
-	for seed := range uint64(20) {
-		f.Add(someBytes(1000+seed, 300))
+func (x *model) free(c *modelClient) bool {
+	return x.ready(c) && !x.held(c)
+}
+
+// dispatch lays the job into the list with its first request: what it takes along is in flight at once.
+func (x *model) dispatch(c *modelClient) {
+	f := modelFate{delay: 1}
+	if len(x.fates) > 0 {
+		f, x.fates = x.fates[0], x.fates[1:]
 	}
-	f.Fuzz(func(t *testing.T, data []byte) { play(t, slices.Clone(data)) })
+	x.jobs = append(x.jobs, modelJob{modelFate: f, of: c, due: x.now + f.delay})
+	j := &x.jobs[len(x.jobs)-1]
+	for bytes := 0; ; {
+		r := c.queue[0]
+		c.queue = c.queue[1:]
+		c.tokens--
+		c.deficit -= cost(r)
+		c.served += cost(r)
+		j.row = append(j.row, r)
+		bytes += r.Length
+		if r.Kind == api.Flush || !x.free(c) {
+			return
+		}
+		n := c.queue[0]
+		if n.Kind != r.Kind || n.Flag != r.Flag || n.Offset != r.Offset+r.Length || cost(n) > c.deficit || bytes+n.Length > x.c.Max {
+			return
+		}
+	}
 }

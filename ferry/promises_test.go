@@ -45,6 +45,9 @@ func TestNoGoroutineStays(t *testing.T) {
 		x.Stop()
 		x.Tick()
 	}
+	for seed := range uint64(10) {
+		play(t, someBytes(900+seed, 600))
+	}
 	wantNoMore(t, before)
 }
 

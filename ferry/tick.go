@@ -11,6 +11,8 @@ func (x *Ferry) Tick() {
 	if !x.stopped {
 		x.read()
 	}
+	x.finish()
+	x.takeTurns()
 	x.letGo()
 }
 

@@ -37,7 +37,7 @@ func TestStatusOnItsWay(t *testing.T) {
 	wantNobody(t, x, 0)
 }
 
-// TestExample is the third of the document's, up to where the requests are read.
+// TestExample is the third of the document's.
 func TestExample(t *testing.T) {
 	x := begun(t, good)
 	wantConnect(t, x, 1, 0, api.OK)
@@ -47,10 +47,36 @@ func TestExample(t *testing.T) {
 	wantSend(t, x, 0, "Q\x01\x00\x07\x00\x00\x00\x04\x00abcd", api.OK)
 	wantSend(t, x, 0, "Q\x00\x00\x08\x00\x00\x00\x04\x00", api.OK)
 	x.Tick()
-	if s, e := x.Client(0); s.Phase != 2 || s.Unread != 0 || s.Queued+s.Flying != 2 || s.Out != 0 || e != api.OK {
-		t.Errorf("P9: Client(0) = %+v, %d, want both requests read", s, e)
-	}
+	wantStatus(t, x, 0, api.Status{Phase: 2, Queued: 1, Flying: 1, Tokens: 3, Deficit: 4, Served: 4})
 	wantTake(t, x, 0, 99, "", api.OK)
+	x.Tick()
+	wantTake(t, x, 0, 99, "R\x00\x07\x00", api.OK)
+	x.Tick()
+	wantTake(t, x, 0, 99, "R\x00\x08\x00abcd", api.OK)
+	wantLogged(t, x, 7, 8)
+	wantDisk(t, x, "abcd")
+}
+
+// TestExampleOfOneJob is the fourth of the document's, with what allows for both writes and with less of each.
+func TestExampleOfOneJob(t *testing.T) {
+	for _, way := range []struct {
+		change func(c *api.Config)
+		flying int
+	}{
+		{func(c *api.Config) {}, 2},
+		{func(c *api.Config) { c.Burst = 1 }, 1},
+		{func(c *api.Config) { c.Max = 4 }, 1},
+		{func(c *api.Config) { c.Max, c.Quantum = 4, 4 }, 1},
+	} {
+		c := good
+		way.change(&c)
+		x := aboard(t, c, 1)
+		wantSend(t, x, 0, put(1, 0, "abcd")+put(2, 4, "efgh"), api.OK)
+		x.Tick()
+		if s := statusOf(x, 0); s.Flying != way.flying || s.Queued != 2-way.flying {
+			t.Errorf("%+v: Client(0) = %+v, want %d in one job", c, s, way.flying)
+		}
+	}
 }
 
 func TestTokensUpToBurst(t *testing.T) {

@@ -116,3 +116,9 @@ func (r *Reader) followRequest(m api.Message) {
 		r.used[m.Cookie] = struct{}{}
 	}
 }
+
+// Free tells that the request of that cookie is answered: the client may use
+// it again.
+func (r *Reader) Free(cookie int) {
+	delete(r.used, cookie)
+}

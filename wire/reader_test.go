@@ -65,3 +65,24 @@ func TestNothingBehindTheEnd(t *testing.T) {
 		}
 	}
 }
+
+// TestFree: a cookie closes as long as it is in use, and no longer.
+func TestFree(t *testing.T) {
+	said := func(r *Reader, cookie byte) int {
+		for m := range r.Messages(flush(cookie)) {
+			return m.What
+		}
+		return 0
+	}
+	r := NewReader(config, PhaseRequests)
+	said(r, 1)
+	said(r, 2)
+	r.Free(1)
+	r.Free(9)
+	if what := said(r, 1); what != api.Request {
+		t.Errorf("a cookie that is free again: %d, want a request", what)
+	}
+	if what := said(r, 2); what != api.Closing {
+		t.Errorf("a cookie that is in use beside it: %d, want a closing", what)
+	}
+}
