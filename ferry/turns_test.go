@@ -241,7 +241,9 @@ func TestBusyWorkers(t *testing.T) {
 		wantSend(t, x, 1, get(20, 0, 4), api.OK)
 		wantSend(t, x, 0, get(10, 0, 4), api.OK)
 		for range 4 {
-			wantStatus(t, x, 0, api.Status{Phase: 2, Unread: statusOf(x, 0).Unread, Queued: statusOf(x, 0).Queued, Flying: workers, Tokens: statusOf(x, 0).Tokens, Deficit: 64 - 4*workers, Served: 4 * workers})
+			if s := statusOf(x, 0); s.Flying != workers || s.Deficit != 64-4*workers || s.Served != 4*workers {
+				t.Errorf("Workers %d: Client(0) = %+v", workers, s)
+			}
 			x.Tick()
 			wantStatus(t, x, 1, api.Status{Phase: 2, Queued: 1, Tokens: 32})
 		}
