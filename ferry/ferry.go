@@ -59,7 +59,9 @@ func (x *Ferry) Disk() string {
 }
 
 // Crash tells what would be left (P10).
-func (x *Ferry) Crash(keep string) string { return "" }
+func (x *Ferry) Crash(keep string) string {
+	return x.disk.Crash(keep)
+}
 
 // Log tells what has been done (P10).
 func (x *Ferry) Log() []api.Entry {

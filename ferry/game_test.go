@@ -149,12 +149,32 @@ func (g *game) sameRest() {
 	if s := g.x.Disk(); s != g.y.disk {
 		g.t.Fatalf("P10: step %d: Disk() = %q, want %q", g.step, s, g.y.disk)
 	}
+	for _, keep := range g.keeps() {
+		if s := g.x.Crash(keep); s != g.y.crash(keep) {
+			g.t.Fatalf("P10: step %d: Crash(%q) = %q, want %q", g.step, keep, s, g.y.crash(keep))
+		}
+	}
 	if l := g.x.Log(); !slices.Equal(l, g.y.log) {
 		g.t.Fatalf("P10: step %d: Log() = %+v, want %+v", g.step, l, g.y.log)
 	}
 	if d := g.x.Done(); d != g.y.done() {
 		g.t.Fatalf("P8: step %d: Done() = %t, want %t", g.step, d, g.y.done())
 	}
+}
+
+// keeps are made of the step's number, not of the script: that one is to be used up by what changes something.
+func (g *game) keeps() []string {
+	long := len(g.y.writes)
+	r := rand.New(rand.NewPCG(uint64(g.step), 3))
+	out := []string{"", strings.Repeat("1", long+1)}
+	for _, choice := range []string{"01", "0111", "0001", "01x"} {
+		var keep strings.Builder
+		for range r.IntN(long + 5) {
+			keep.WriteByte(choice[r.IntN(len(choice))])
+		}
+		out = append(out, keep.String())
+	}
+	return out
 }
 
 func (g *game) connect(weight int) {

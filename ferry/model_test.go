@@ -17,6 +17,7 @@ type model struct {
 	fates                    []modelFate
 	jobs                     []modelJob // in the order of dispatch
 	disk                     string
+	writes                   []modelWrite // all that ever were, in order
 	log                      []api.Entry
 }
 
@@ -43,6 +44,19 @@ type modelJob struct {
 	row []modelRequest
 	due int
 }
+
+// modelWrite is a sector that was written, and what has become of it.
+type modelWrite struct {
+	offset int
+	sector string
+	state  int
+}
+
+const (
+	cached = iota
+	durable
+	overtaken // by one that was durable at once
+)
 
 func newModel(c api.Config) *model {
 	return &model{c: c, seats: make([]*modelClient, c.Clients), disk: strings.Repeat("\x00", c.Size)}
@@ -269,9 +283,11 @@ func (x *model) finishOne() bool {
 	left := 1 << 30
 	if j.fails {
 		left = j.part
+	} else if j.row[0].Kind == api.Flush {
+		x.mark(cached, durable, 0, x.c.Size)
 	}
 	for _, r := range j.row {
-		left = x.do(r, left)
+		left = x.do(j, r, left)
 	}
 	for _, r := range j.row {
 		x.tell(j, r)
@@ -280,7 +296,7 @@ func (x *model) finishOne() bool {
 }
 
 // do writes at most so many sectors, and tells how many are left for the next.
-func (x *model) do(r modelRequest, left int) int {
+func (x *model) do(j modelJob, r modelRequest, left int) int {
 	if r.Kind == api.Read || r.Kind == api.Flush {
 		return left
 	}
@@ -290,9 +306,39 @@ func (x *model) do(r modelRequest, left int) int {
 			sector = r.Data[at : at+4]
 		}
 		x.disk = x.disk[:r.Offset+at] + sector + x.disk[r.Offset+at+4:]
+		state := cached
+		if r.Flag == 1 && !j.fails {
+			state = durable
+			x.mark(cached, overtaken, r.Offset+at, r.Offset+at+4)
+		}
+		x.writes = append(x.writes, modelWrite{r.Offset + at, sector, state})
 		left--
 	}
 	return left
+}
+
+// mark lets something become of all writes in a range of which this had become before.
+func (x *model) mark(before, now, from, to int) {
+	for i, w := range x.writes {
+		if w.state == before && from <= w.offset && w.offset < to {
+			x.writes[i].state = now
+		}
+	}
+}
+
+// crash goes through all that was ever written: of one sector, what is durable stands ahead of what is cached.
+func (x *model) crash(keep string) string {
+	left := []byte(strings.Repeat("\x00", x.c.Size))
+	for _, w := range x.writes {
+		kept := w.state == durable
+		if w.state == cached && keep != "" {
+			kept, keep = keep[0] == '1', keep[1:]
+		}
+		if kept {
+			copy(left[w.offset:], w.sector)
+		}
+	}
+	return string(left)
 }
 
 func (x *model) tell(j modelJob, r modelRequest) {

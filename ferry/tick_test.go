@@ -55,6 +55,8 @@ func TestExample(t *testing.T) {
 	wantTake(t, x, 0, 99, "R\x00\x08\x00abcd", api.OK)
 	wantLogged(t, x, 7, 8)
 	wantDisk(t, x, "abcd")
+	wantCrash(t, x, "", strings.Repeat("\x00", 64))
+	wantCrash(t, x, "1", "abcd"+strings.Repeat("\x00", 60))
 }
 
 // TestExampleOfOneJob is the fourth of the document's, with what allows for both writes and with less of each.

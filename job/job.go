@@ -68,10 +68,13 @@ func (j *Job) Touches(r client.Request) bool {
 	return slices.ContainsFunc(j.requests, r.Touches)
 }
 
-// Do does the job: the disk is written, the client is answered. It tells what
+// through is the flag of what is to be durable as soon as it is answered.
+const through = 1
+
+// Do does the job: the disk is changed, the client is answered. It tells what
 // the log is to have of it.
 func (j *Job) Do(d *disk.Disk) []api.Entry {
-	d.Write(j.requests[0].Offset, j.written())
+	j.change(d)
 	var done []api.Entry
 	for _, r := range j.requests {
 		e := j.entry(r)
@@ -79,6 +82,21 @@ func (j *Job) Do(d *disk.Disk) []api.Entry {
 		j.client.Answer(r, e.Err, told(d, e))
 	}
 	return done
+}
+
+// change looks at the first request alone: all have one kind and flag. What
+// fails makes nothing durable, whatever was asked for. What has nothing to write
+// (a read, or a flush that fails) writes nothing.
+func (j *Job) change(d *disk.Disk) {
+	first, fine := j.requests[0], !j.fate.Fails
+	switch {
+	case first.Kind == api.Flush && fine:
+		d.Flush()
+	case first.Flag == through && fine:
+		d.WriteThrough(first.Offset, j.written())
+	default:
+		d.Write(first.Offset, j.written())
+	}
 }
 
 // written is what comes onto the disk: of a job that fails only as many

@@ -169,3 +169,60 @@ func TestDoForNobody(t *testing.T) {
 		t.Errorf("the disk has %q, gone %t", s, c.IsGone())
 	}
 }
+
+// TestDoToTheCache: of a job that does not fail the flag makes all durable, and a flush does; all else joins the cache.
+func TestDoToTheCache(t *testing.T) {
+	for _, way := range []struct {
+		kind, flag int
+		fate       Fate
+		durable    string // from 4 on
+		oneByOne   string // what is left from 4 on if the first, the second .. of the cache alone is kept
+	}{
+		{api.Write, 0, Fate{1, false, 0}, "xxxxxxxxxxxx", "bbbbxxxxxxxx|xxxxbbbbxxxx|xxxxxxxxcccc"},
+		{api.Write, 0, Fate{1, true, 0}, "xxxxxxxxxxxx", "xxxxxxxxxxxx"},
+		{api.Write, 0, Fate{1, true, 2}, "xxxxxxxxxxxx", "bbbbxxxxxxxx|xxxxbbbbxxxx|xxxxxxxxxxxx"},
+		{api.Write, 1, Fate{1, false, 0}, "bbbbbbbbcccc", "bbbbbbbbcccc"},
+		{api.Write, 1, Fate{1, true, 0}, "xxxxxxxxxxxx", "xxxxxxxxxxxx"},
+		{api.Write, 1, Fate{1, true, 1}, "xxxxxxxxxxxx", "bbbbxxxxxxxx|xxxxxxxxxxxx"},
+		{api.Write, 1, Fate{1, true, 3}, "xxxxxxxxxxxx", "bbbbxxxxxxxx|xxxxbbbbxxxx|xxxxxxxxcccc"},
+		{api.Trim, 1, Fate{1, false, 0}, strings.Repeat("\x00", 12), strings.Repeat("\x00", 12)},
+		{api.Zero, 1, Fate{1, true, 1}, "xxxxxxxxxxxx", "\x00\x00\x00\x00xxxxxxxx|xxxxxxxxxxxx"},
+		{api.Zero, 0, Fate{1, false, 1}, "xxxxxxxxxxxx", "\x00\x00\x00\x00xxxxxxxx|xxxx\x00\x00\x00\x00xxxx|xxxxxxxx\x00\x00\x00\x00"},
+		{api.Read, 0, Fate{1, false, 0}, "xxxxxxxxxxxx", "xxxxxxxxxxxx"},
+		{api.Read, 0, Fate{1, true, 3}, "xxxxxxxxxxxx", "xxxxxxxxxxxx"},
+	} {
+		d := disk.New(20)
+		d.WriteThrough(0, strings.Repeat("x", 20))
+		j, _ := whole(t, ask(way.kind, way.flag, 1, 4, 8), ask(way.kind, way.flag, 2, 12, 4))
+		j.Start(0, 0, way.fate)
+		j.Do(d)
+		if s := d.Crash(""); s != "xxxx"+way.durable+"xxxx" {
+			t.Errorf("%+v: durable is %q", way, s)
+		}
+		for i, want := range strings.Split(way.oneByOne, "|") {
+			if s := d.Crash(strings.Repeat("0", i) + "1"); s != "xxxx"+want+"xxxx" {
+				t.Errorf("%+v: with the %dth of the cache %q is left", way, i, s)
+			}
+		}
+	}
+}
+
+// TestDoFlush: one that fails leaves the cache as it is.
+func TestDoFlush(t *testing.T) {
+	for _, fate := range []Fate{{1, true, 0}, {1, true, 1}, {1, true, 99}, {1, false, 0}} {
+		d := disk.New(8)
+		d.Write(0, "aaaabbbb")
+		j, _ := whole(t, ask(api.Flush, 0, 1, 0, 0))
+		j.Start(0, 0, fate)
+		j.Do(d)
+		want := []string{"aaaabbbb", "aaaabbbb", "aaaabbbb"}
+		if fate.Fails {
+			want = []string{"\x00\x00\x00\x00\x00\x00\x00\x00", "\x00\x00\x00\x00bbbb", "aaaabbbb"}
+		}
+		for i, keep := range []string{"", "01", "11"} {
+			if s := d.Crash(keep); s != want[i] {
+				t.Errorf("%+v: Crash(%q) = %q, want %q", fate, keep, s, want[i])
+			}
+		}
+	}
+}
